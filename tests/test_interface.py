@@ -1,0 +1,65 @@
+"""The names and arguments of the interface, each defined in its own file."""
+
+import inspect
+import unittest
+from importlib import import_module
+
+FUNCTIONS = {
+    "words": {
+        "is_integer": "(value)",
+        "check_number": "(what, value, low, high)",
+        "read_number": "(text)",
+    },
+    "ratio": {
+        "read_ratio": "(text)",
+    },
+}
+
+METHODS = {
+    ("errors", "BadNumber"): {"__init__": "(self, what, value)"},
+    ("errors", "BadLot"): {"__init__": "(self, place)"},
+    ("errors", "NoMeeting"): {"__init__": "(self, read, write)"},
+    ("errors", "BadTrade"): {"__init__": "(self, place, reason)"},
+    ("errors", "BadFlow"): {"__init__": "(self, lot, member)"},
+    ("errors", "BadText"): {"__init__": "(self, line)"},
+    ("errors", "BadDeed"): {"__init__": "(self, place)"},
+    ("errors", "TooMany"): {"__init__": "(self, limit)"},
+    ("ratio", "Ratio"): {
+        "__init__": "(self, over, under=1)",
+        "__str__": "(self)",
+        "divided": "(self, other)",
+        "half": "()",
+        **{
+            f"__{sign}__": "(self, other)"
+            for sign in ["eq", "lt", "le", "gt", "ge", "add", "radd", "sub", "rsub", "mul", "rmul"]
+        },
+    },
+}
+
+STATIC_METHODS = [("ratio", "Ratio", "half")]
+
+
+class InterfaceTest(unittest.TestCase):
+    def test_functions(self):
+        for file, functions in FUNCTIONS.items():
+            module = import_module(f"copyvotes.{file}")
+            for name, arguments in functions.items():
+                with self.subTest(file=file, name=name):
+                    function = getattr(module, name)
+                    self.assertEqual(function.__module__, module.__name__)
+                    self.assertEqual(str(inspect.signature(function)), arguments)
+
+    def test_methods_stand_in_the_class_itself(self):
+        for (file, holder), methods in METHODS.items():
+            module = import_module(f"copyvotes.{file}")
+            owner = getattr(module, holder)
+            self.assertEqual(owner.__module__, module.__name__)
+            for name, arguments in methods.items():
+                with self.subTest(file=file, holder=holder, name=name):
+                    self.assertIn(name, vars(owner))
+                    self.assertEqual(str(inspect.signature(getattr(owner, name))), arguments)
+
+    def test_static_methods(self):
+        for file, holder, name in STATIC_METHODS:
+            owner = getattr(import_module(f"copyvotes.{file}"), holder)
+            self.assertIsInstance(vars(owner)[name], staticmethod)
