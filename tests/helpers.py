@@ -1,8 +1,22 @@
 """What the tests of several files share."""
 
 import unittest
+from fractions import Fraction
 
 from copyvotes.errors import BadNumber
+from copyvotes.ratio import Ratio
+
+NO_COPIES = [0, 9, -1, 10 ** 30, True, False, None, "3", 3.0, (3,), [3]]
+# What is none of three copies.
+NO_COPY = [3, -1, 10 ** 30, True, False, None, "0", "a", 1.0, (), (0,), [0]]
+NO_RATIOS = [0, 1, True, None, "1/2", "3/4", 0.5, (1, 2), [Ratio(1, 2)], Fraction(3, 4)]
+NO_CHANCES = NO_RATIOS + [
+    Ratio(499, 1000), Ratio(1, 3), Ratio(0), Ratio(-3, 4), Ratio(1), Ratio(1001, 1000), Ratio(2),
+    Ratio(501, 1001), Ratio(1000, 1001), Ratio(2001, 4000),
+]
+NO_SHARES = NO_RATIOS + [
+    Ratio(-1, 1000), Ratio(-1), Ratio(1001, 1000), Ratio(2), Ratio(1, 1001), Ratio(1000, 1001), Ratio(-1, 1001),
+]
 
 
 class NumberTest(unittest.TestCase):

@@ -30,6 +30,15 @@ BARRED_NAMES = set("register mro elements open input law version_info with_trace
 BARRED_STATEMENTS = (
     ast.Global, ast.AsyncFor, ast.AsyncFunctionDef, ast.AsyncWith, ast.Await, ast.Import, ast.Div,
 )
+# Ratios have an order of their own kind, so that nothing is sorted by them.
+ORDERING = {"min", "max", "sorted", "sort"}
+BUILTIN_METHODS = set("""
+    append clear copy count endswith extend find get index insert isalnum isalpha isdigit islower isspace isupper
+    items join keys ljust lower lstrip partition pop remove replace reverse rfind rjust rpartition rsplit rstrip
+    setdefault split splitlines startswith strip update upper values zfill bit_length
+    title capitalize swapcase casefold center expandtabs removeprefix removesuffix rindex isascii isdecimal
+    isnumeric istitle isidentifier isprintable translate
+""".split())
 AT_MODULE_LEVEL = (ast.ImportFrom, ast.FunctionDef, ast.ClassDef, ast.Assign)
 
 
@@ -150,3 +159,71 @@ class FormTest(unittest.TestCase):
             self.assertNotIn(name, BARRED_NAMES, path)
         for path, node in nodes(ast.Attribute):
             self.assertNotIn(node.attr, BARRED_NAMES, (path, node.lineno))
+
+    def test_no_local_name_is_that_of_a_class_or_an_import_of_its_file(self):
+        for path, tree in trees():
+            taken = {alias.name for node in ast.walk(tree) if isinstance(node, ast.ImportFrom) for alias in node.names}
+            taken |= {node.name for node in tree.body if isinstance(node, ast.ClassDef)}
+            for node in ast.walk(tree):
+                if isinstance(node, ast.arg):
+                    self.assertNotIn(node.arg, taken, (path, node.lineno))
+                if isinstance(node, ast.Name) and isinstance(node.ctx, ast.Store):
+                    self.assertNotIn(node.id, taken, (path, node.lineno))
+
+    def test_methods_that_are_called(self):
+        own = {
+            method.name for path, holder in nodes(ast.ClassDef)
+            for method in holder.body if isinstance(method, ast.FunctionDef)
+        }
+        for path, node in nodes(ast.Call):
+            if isinstance(node.func, ast.Attribute):
+                self.assertIn(node.func.attr, own | BUILTIN_METHODS, (path, node.lineno))
+        self.assertEqual(own & BUILTIN_METHODS, set())
+
+    def test_no_name_is_a_method_and_an_attribute(self):
+        stored = {node.attr for path, node in nodes(ast.Attribute) if isinstance(node.ctx, ast.Store)}
+        for path, holder in nodes(ast.ClassDef):
+            for method in holder.body:
+                if isinstance(method, ast.FunctionDef):
+                    self.assertNotIn(method.name, stored, (path, holder.name))
+        for path, node in nodes(ast.Attribute):
+            if isinstance(node.ctx, ast.Store):
+                self.assertEqual(ast.unparse(node.value), "self", (path, node.lineno))
+
+    def test_what_beside_own_signs_is_not_used(self):
+        self.assertEqual(nodes(ast.GeneratorExp), [])
+        for path, node in nodes(ast.AugAssign):
+            self.assertIsInstance(node.value, ast.Constant, (path, node.lineno))
+        for path, node in nodes(ast.Name, ast.Attribute):
+            name = node.id if isinstance(node, ast.Name) else node.attr
+            self.assertNotIn(name, ORDERING, (path, node.lineno))
+
+    def test_only_errors_of_the_program_are_caught(self):
+        own = {node.name for path, node in nodes(ast.ClassDef) if path.name == "errors.py"}
+        for path, node in nodes(ast.ExceptHandler):
+            self.assertIn(ast.unparse(node.type), own, (path, node.lineno))
+
+    def test_stars_stand_before_names_and_attributes(self):
+        for path, node in nodes(ast.Starred):
+            self.assertIsInstance(node.value, (ast.Name, ast.Attribute), (path, node.lineno))
+
+    def test_is_stands_beside_none_true_and_false(self):
+        for path, node in nodes(ast.Compare):
+            for sign, right in zip(node.ops, node.comparators):
+                if isinstance(sign, (ast.Is, ast.IsNot)):
+                    self.assertIn(ast.unparse(right), ["None", "True", "False"], (path, node.lineno))
+
+    def test_generators_have_names_of_their_own_and_are_iterated_at_once(self):
+        generators = [
+            (path, node.name) for path, node in nodes(ast.FunctionDef)
+            if any(isinstance(inner, (ast.Yield, ast.YieldFrom)) for inner in ast.walk(node))
+        ]
+        functions = [node.name for path, node in nodes(ast.FunctionDef)]
+        iterated = [
+            (path, node.iter.lineno, ast.dump(node.iter)) for path, node in nodes(ast.For, ast.comprehension)
+        ]
+        for path, name in generators:
+            self.assertEqual(functions.count(name), 1, path)
+            for place, call in nodes(ast.Call):
+                if isinstance(call.func, ast.Attribute) and call.func.attr == name:
+                    self.assertIn((place, call.lineno, ast.dump(call)), iterated)

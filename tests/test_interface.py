@@ -13,6 +13,15 @@ FUNCTIONS = {
     "ratio": {
         "read_ratio": "(text)",
     },
+    "lots": {
+        "lot_of": "(copies, numbers)",
+        "others": "(copies, lot)",
+        "all_lots": "(copies)",
+    },
+    "worth": {
+        "worth": "(chances, share, reads, writes)",
+        "gain": "(chances, share, lot)",
+    },
 }
 
 METHODS = {
@@ -34,9 +43,36 @@ METHODS = {
             for sign in ["eq", "lt", "le", "gt", "ge", "add", "radd", "sub", "rsub", "mul", "rmul"]
         },
     },
+    ("family", "Family"): {
+        "__init__": "(self, copies, *lots)",
+        **{f"__{sign}__": "(self, other)" for sign in ["eq", "le", "or", "and"]},
+        "__contains__": "(self, lot)",
+        "__len__": "(self)",
+        "__iter__": "(self)",
+        "every": "(self)",
+        "size": "(self)",
+        "wider": "(self)",
+        "meets": "(self, other)",
+        "is_strict": "(self)",
+        "dual": "(self)",
+        "whole": "(copies)",
+        "each": "(copies)",
+    },
+    ("chances", "Chances"): {
+        "__init__": "(self, *chances)",
+        "__eq__": "(self, other)",
+        "__add__": "(self, other)",
+        "__getitem__": "(self, at)",
+        "__len__": "(self)",
+        "__iter__": "(self)",
+        "with_chance": "(self, copy, chance)",
+        "alone": "(self, lot)",
+        "up": "(self, family)",
+        "decides": "(self, family, copy)",
+    },
 }
 
-STATIC_METHODS = [("ratio", "Ratio", "half")]
+STATIC_METHODS = [("ratio", "Ratio", "half"), ("family", "Family", "whole"), ("family", "Family", "each")]
 
 
 class InterfaceTest(unittest.TestCase):
