@@ -1,7 +1,7 @@
 """Families: which lots are enough."""
 
 from copyvotes.errors import BadLot, BadNumber, Unlike
-from copyvotes.lots import check_copies, lot_at, mask_of
+from copyvotes.lots import check_copies, lot_at, mask_of, whole_lot
 
 
 class Family:
@@ -24,8 +24,7 @@ class Family:
     @staticmethod
     def whole(copies):
         """Return the family that contains the lot of all copies alone."""
-        check_copies(copies)
-        return Family(copies, tuple(range(copies)))
+        return Family(copies, whole_lot(copies))
 
     @staticmethod
     def each(copies):
@@ -41,7 +40,7 @@ class Family:
         if not isinstance(other, Family):
             return NotImplemented
         check_alike(self.copies, other)
-        return all([theirs or not mine for mine, theirs in zip(self.marks, other.marks)])
+        return is_within(self.marks, other.marks)
 
     def __or__(self, other):
         if not isinstance(other, Family):
@@ -102,6 +101,11 @@ def check_alike(copies, family):
     """Raise Unlike if the family has another number of copies."""
     if family.copies != copies:
         raise Unlike()
+
+
+def is_within(marks, more):
+    """Tell whether each lot that is marked in the first is marked in the second, too."""
+    return all([theirs or not mine for mine, theirs in zip(marks, more)])
 
 
 def masks_of(copies, lots):

@@ -50,3 +50,13 @@ def all_lots(copies):
     """Return all lots, ascending."""
     check_copies(copies)
     return [lot_at(mask) for mask in range(1 << copies)]
+
+
+def middle_lots(copies):
+    """Return the lots, ascending, that are neither empty nor the lot of all copies."""
+    return all_lots(copies)[1:-1]
+
+
+def whole_lot(copies):
+    """Return the lot of all copies."""
+    return others(copies, ())

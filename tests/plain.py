@@ -4,7 +4,9 @@ Nothing here uses the program but the functions at the end, which make its objec
 """
 
 from fractions import Fraction
+from functools import cache
 from itertools import combinations
+from math import ceil, floor
 
 from copyvotes.chances import Chances
 from copyvotes.family import Family
@@ -36,6 +38,7 @@ def minimal(family):
     return tuple(tuple(sorted(lot)) for lot in sorted(least, key=number))
 
 
+@cache
 def families(copies):
     """All families: from the lot of all copies on, lot by lot, each after all that hold it."""
     known = {frozenset([frozenset(range(copies))])}
@@ -77,6 +80,52 @@ def worth(chances, share, reads, writes):
 
 def gain(chances, share, lot):
     return (1 - share) * alone(chances, lot) - share * alone(chances, others(len(chances), lot))
+
+
+def middle_lots(copies):
+    return lots(copies)[1:-1]
+
+
+def breaks(chances):
+    """The different shares at which the gain of a middle lot is 0, ascending."""
+    found = set()
+    for lot in middle_lots(len(chances)):
+        mine, theirs = alone(chances, lot), alone(chances, others(len(chances), lot))
+        found.add(mine / (mine + theirs))
+    return sorted(found)
+
+
+def shares(chances):
+    """0, 1/2 and 1, and for each break: itself, if it may be a share, and shares just below and just above it."""
+    found = {Fraction(0), Fraction(1, 2), Fraction(1)}
+    for turn in breaks(chances):
+        found |= {Fraction(ceil(turn * 1000) - 1, 1000), Fraction(floor(turn * 1000) + 1, 1000)}
+        if turn.denominator <= 1000:
+            found.add(turn)
+    return sorted(found)
+
+
+def chances_to_try(random, copies):
+    """Lists of chances: of 1/2 alone, of one other chance alone, of 1/2 among others, and two that are drawn."""
+    half = Fraction(1, 2)
+    tried = [[half] * copies, [draw_chance(random)] * copies, [half] + draw_chances(random, copies - 1)]
+    return tried + [draw_chances(random, copies) for _ in range(2)]
+
+
+@cache
+def with_duals(copies):
+    """All families of writes, each with its dual."""
+    return [(writes, dual(copies, writes)) for writes in families(copies)]
+
+
+def ups(chances):
+    """All families of writes, each with the chance of a read by its dual and the one of a write."""
+    return [(writes, up(chances, reads), up(chances, writes)) for writes, reads in with_duals(len(chances))]
+
+
+def worths(share, rows):
+    """The worth of all families of writes with their duals, from the rows of ups."""
+    return {writes: share * reading + (1 - share) * writing for writes, reading, writing in rows}
 
 
 def draw_chance(random):

@@ -22,6 +22,22 @@ FUNCTIONS = {
         "worth": "(chances, share, reads, writes)",
         "gain": "(chances, share, lot)",
     },
+    "best": {
+        **{
+            name: "(chances, share)"
+            for name in ["most_worth", "least_writes", "greatest_writes", "count_best", "best_writes"]
+        },
+        "is_best": "(chances, share, writes)",
+    },
+    "strict": {
+        "heavy": "(chances)",
+        "most_strict": "(chances, share)",
+        "strict_writes": "(chances, share)",
+        "is_best_strict": "(chances, share, writes)",
+    },
+    "curve": {
+        "breaks": "(chances)",
+    },
 }
 
 METHODS = {
@@ -69,6 +85,14 @@ METHODS = {
         "alone": "(self, lot)",
         "up": "(self, family)",
         "decides": "(self, family, copy)",
+    },
+    ("curve", "Curve"): {
+        "__init__": "(self, chances)",
+        "__call__": "(self, share)",
+        "__getitem__": "(self, at)",
+        "__len__": "(self)",
+        "__iter__": "(self)",
+        "least": "(self, share)",
     },
 }
 
