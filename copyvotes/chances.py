@@ -28,8 +28,6 @@ class Chances:
         return isinstance(other, Chances) and self.ratios == other.ratios
 
     def __add__(self, other):
-        if not isinstance(other, Chances):
-            return NotImplemented
         ratios = self.ratios + other.ratios
         return Chances(*ratios)
 

@@ -37,20 +37,14 @@ class Family:
         return isinstance(other, Family) and self.copies == other.copies and self.lots == other.lots
 
     def __le__(self, other):
-        if not isinstance(other, Family):
-            return NotImplemented
         check_alike(self.copies, other)
         return is_within(self.marks, other.marks)
 
     def __or__(self, other):
-        if not isinstance(other, Family):
-            return NotImplemented
         check_alike(self.copies, other)
         return marked(self.copies, [mine or theirs for mine, theirs in zip(self.marks, other.marks)])
 
     def __and__(self, other):
-        if not isinstance(other, Family):
-            return NotImplemented
         check_alike(self.copies, other)
         return marked(self.copies, [mine and theirs for mine, theirs in zip(self.marks, other.marks)])
 

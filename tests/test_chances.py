@@ -125,11 +125,6 @@ class ChangingTest(NumberTest):
             mine, theirs = Chances(*[HALF] * left), Chances(*[HALF] * right)
             self.assert_bad_number("copies", left + right, operator.add, mine, theirs)
 
-    def test_plus_a_value_of_another_class(self):
-        for value in [HALF, 1, None, THREE]:
-            with self.assertRaises(TypeError):
-                Chances(*THREE) + value
-
     def test_with_chance(self):
         chances = Chances(*THREE)
         new = Ratio(7, 8)

@@ -199,12 +199,6 @@ class SignsTest(NumberTest):
                         with self.assertRaises(Unlike):
                             sign(Family.whole(left), Family.each(right))
 
-    def test_no_sign_goes_with_a_value_of_another_class(self):
-        for sign in SIGNS[:3]:
-            for value in [3, None, ((0,),), "family"]:
-                with self.assertRaises(TypeError):
-                    sign(Family.each(2), value)
-
     def test_len_and_iteration(self):
         for copies, family, found in some_families(7):
             self.assertEqual(len(found), len(plain.minimal(family)))
