@@ -115,7 +115,7 @@ def masks_of(copies, lots):
 
 def marks_above(copies, masks):
     """Tell of each lot, ascending, whether it holds one of the lots with these masks."""
-    marks = [False] * (1 << copies)
+    marks = [False for _ in range(1 << copies)]
     for mask in masks:
         marks[mask] = True
     for copy in range(copies):

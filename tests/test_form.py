@@ -198,6 +198,13 @@ class FormTest(unittest.TestCase):
             name = node.id if isinstance(node, ast.Name) else node.attr
             self.assertNotIn(name, ORDERING, (path, node.lineno))
 
+    def test_no_list_is_made_by_a_sign_that_ratios_have(self):
+        # Beside Ratio's own *, such a list would not surely be one that its function created.
+        for path, node in nodes(ast.BinOp):
+            if isinstance(node.op, ast.Mult):
+                for side in (node.left, node.right):
+                    self.assertNotIsInstance(side, (ast.List, ast.ListComp, ast.Tuple), (path, node.lineno))
+
     def test_only_errors_of_the_program_are_caught(self):
         own = {node.name for path, node in nodes(ast.ClassDef) if path.name == "errors.py"}
         for path, node in nodes(ast.ExceptHandler):
