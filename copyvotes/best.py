@@ -1,8 +1,7 @@
 """The most that reads and writes can be worth together, and the writes that reach it."""
 
-from copyvotes.errors import TooMany
 from copyvotes.family import Family, is_within, marked
-from copyvotes.lots import middle_lots, whole_lot
+from copyvotes.lots import check_few, middle_lots, whole_lot
 from copyvotes.worth import check_share, gain
 
 MOST_COUNTED = 5
@@ -46,21 +45,15 @@ def is_best(chances, share, writes):
 def count_best(chances, share):
     """Return the number of families of writes that reach most_worth with their duals."""
     check_share(share)
-    check_few(chances, MOST_COUNTED)
+    check_few(len(chances), MOST_COUNTED)
     return len(best_marks(chances, share))
 
 
 def best_writes(chances, share):
     """Return all families of writes that reach most_worth with their duals."""
     check_share(share)
-    check_few(chances, MOST_LISTED)
+    check_few(len(chances), MOST_LISTED)
     return [marked(len(chances), marks) for marks in best_marks(chances, share)]
-
-
-def check_few(chances, limit):
-    """Raise TooMany if there are more copies than the limit."""
-    if len(chances) > limit:
-        raise TooMany(limit)
 
 
 def best_marks(chances, share):

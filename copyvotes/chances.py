@@ -69,6 +69,13 @@ class Chances:
         return Ratio(total, self.scale)
 
 
+def without_copy(chances, copy):
+    """Return the chances of the other copies."""
+    check_copy(len(chances), copy)
+    ratios = [ratio for place, ratio in enumerate(chances) if place != copy]
+    return Chances(*ratios)
+
+
 def is_short(value):
     """Tell whether the value is a ratio whose under is not too great for a chance or a share."""
     return isinstance(value, Ratio) and value.under <= MOST_UNDER

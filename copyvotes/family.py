@@ -1,7 +1,7 @@
 """Families: which lots are enough."""
 
 from copyvotes.errors import BadLot, BadNumber, Unlike
-from copyvotes.lots import check_copies, lot_at, mask_of, whole_lot
+from copyvotes.lots import check_copies, lot_at, mask_in, mask_of, whole_lot
 
 
 class Family:
@@ -49,11 +49,8 @@ class Family:
         return marked(self.copies, [mine and theirs for mine, theirs in zip(self.marks, other.marks)])
 
     def __contains__(self, lot):
-        try:
-            mask = mask_of(self.copies, lot)
-        except BadNumber:
-            return False
-        return self.marks[mask]
+        mask = mask_in(self.copies, lot)
+        return mask is not None and self.marks[mask]
 
     def __len__(self):
         return len(self.lots)
@@ -91,9 +88,9 @@ class Family:
         return marked(self.copies, [not mark for mark in self.marks[::-1]])
 
 
-def check_alike(copies, family):
-    """Raise Unlike if the family has another number of copies."""
-    if family.copies != copies:
+def check_alike(copies, other):
+    """Raise Unlike if the other one is for another number of copies."""
+    if other.copies != copies:
         raise Unlike()
 
 

@@ -5,6 +5,7 @@ copy 2 and so on. Lots are ordered by it, so it is the place of the lot among
 all lots.
 """
 
+from copyvotes.errors import BadNumber, TooMany
 from copyvotes.words import check_number
 
 MOST_COPIES = 8
@@ -20,12 +21,26 @@ def check_copy(copies, copy):
     return check_number("copy", copy, 0, copies - 1)
 
 
+def check_few(copies, limit):
+    """Raise TooMany if there are more copies than the limit."""
+    if copies > limit:
+        raise TooMany(limit)
+
+
 def mask_of(copies, numbers):
     """Return the mask of the lot of these copies, which may stand in any order and several times."""
     mask = 0
     for number in numbers:
         mask = mask | (1 << check_copy(copies, number))
     return mask
+
+
+def mask_in(copies, numbers):
+    """Return the mask of the lot of these copies, None if one of them is none."""
+    try:
+        return mask_of(copies, numbers)
+    except BadNumber:
+        return None
 
 
 def lot_at(mask):
@@ -37,6 +52,14 @@ def lot_of(copies, numbers):
     """Return the lot of these copies, which may stand in any order and several times."""
     check_copies(copies)
     return lot_at(mask_of(copies, numbers))
+
+
+def is_lot(copies, value):
+    """Tell whether the value is a lot as it stands: a tuple of different copies in ascending order."""
+    if not isinstance(value, tuple):
+        return False
+    mask = mask_in(copies, value)
+    return mask is not None and lot_at(mask) == value
 
 
 def others(copies, lot):

@@ -9,6 +9,7 @@ from copyvotes.ratio import Ratio
 NO_COPIES = [0, 9, -1, 10 ** 30, True, False, None, "3", 3.0, (3,), [3]]
 # What is none of three copies.
 NO_COPY = [3, -1, 10 ** 30, True, False, None, "0", "a", 1.0, (), (0,), [0]]
+NO_COUNTS = [-1, -10 ** 30, True, False, None, "1", 1.0, (1,), [1], Ratio(1)]
 NO_RATIOS = [0, 1, True, None, "1/2", "3/4", 0.5, (1, 2), [Ratio(1, 2)], Fraction(3, 4)]
 NO_CHANCES = NO_RATIOS + [
     Ratio(499, 1000), Ratio(1, 3), Ratio(0), Ratio(-3, 4), Ratio(1), Ratio(1001, 1000), Ratio(2),
@@ -17,6 +18,13 @@ NO_CHANCES = NO_RATIOS + [
 NO_SHARES = NO_RATIOS + [
     Ratio(-1, 1000), Ratio(-1), Ratio(1001, 1000), Ratio(2), Ratio(1, 1001), Ratio(1000, 1001), Ratio(-1, 1001),
 ]
+
+
+class EqualToAll:
+    """A value of another class that claims to be equal to everything."""
+
+    def __eq__(self, other):
+        return True
 
 
 class NumberTest(unittest.TestCase):

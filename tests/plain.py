@@ -11,6 +11,7 @@ from math import ceil, floor
 from copyvotes.chances import Chances
 from copyvotes.family import Family
 from copyvotes.ratio import Ratio
+from copyvotes.table import Table
 
 
 def number(lot):
@@ -29,7 +30,7 @@ def others(copies, lot):
 
 def above(copies, some):
     """All lots that hold one of these."""
-    return frozenset(lot for lot in lots(copies) if any(lot >= one for one in some))
+    return frozenset(lot for lot in lots(copies) if any(lot.issuperset(one) for one in some))
 
 
 def minimal(family):
@@ -157,6 +158,25 @@ def drawn_pairs(random, copies, many):
     return pairs
 
 
+def draw_counts(random, copies, most=99):
+    """How many moments just the copies of each lot were up; many lots come with none, one has some."""
+    counts = {lot: random.choice([0, random.randint(0, most)]) for lot in lots(copies)}
+    counts[random.choice(lots(copies))] = random.randint(1, most)
+    return counts
+
+
+def up_moments(counts, family):
+    return sum(counts[lot] for lot in family)
+
+
+def table_worth(counts, share, reads, writes):
+    return share * up_moments(counts, reads) + (1 - share) * up_moments(counts, writes)
+
+
+def table_gain(copies, counts, share, lot):
+    return (1 - share) * counts[lot] - share * counts[others(copies, lot)]
+
+
 def fraction_of(ratio):
     return Fraction(ratio.over, ratio.under)
 
@@ -167,6 +187,10 @@ def ratio_of(fraction):
 
 def chances_of(fractions):
     return Chances(*[ratio_of(fraction) for fraction in fractions])
+
+
+def table_of(copies, counts):
+    return Table(copies, {tuple(sorted(lot)): count for lot, count in counts.items()})
 
 
 def family_of(copies, family):

@@ -10,15 +10,10 @@ from copyvotes.errors import BadNumber, Unlike
 from copyvotes.family import Family
 from copyvotes.ratio import Ratio
 from tests import plain
-from tests.helpers import NO_CHANCES, NO_COPY, NumberTest
+from tests.helpers import NO_CHANCES, NO_COPY, EqualToAll, NumberTest
 
 HALF = Ratio(1, 2)
 THREE = (Ratio(3, 4), Ratio(1, 2), Ratio(9, 10))
-
-
-class EqualToAll:
-    def __eq__(self, other):
-        return True
 
 
 def drawn(seed, many=6):

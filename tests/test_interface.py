@@ -38,6 +38,26 @@ FUNCTIONS = {
     "curve": {
         "breaks": "(chances)",
     },
+    "spans": {
+        "best_span": "(chances, writes)",
+        "wrong_lots": "(chances, share, writes)",
+        "loss": "(chances, share, writes)",
+        "copy_worth": "(chances, share, copy)",
+        "copy_worths": "(chances, share)",
+    },
+    "votes": {
+        "find_votes": "(family)",
+    },
+    "trades": {
+        "check_trade": "(family, pairs)",
+        "first_trade": "(family)",
+    },
+    "table": {
+        "as_table": "(chances)",
+        "up_moments": "(table, family)",
+        "table_worth": "(table, share, reads, writes)",
+        "table_gain": "(table, share, lot)",
+    },
 }
 
 METHODS = {
@@ -93,6 +113,17 @@ METHODS = {
         "__len__": "(self)",
         "__iter__": "(self)",
         "least": "(self, share)",
+    },
+    ("votes", "Votes"): {
+        "__init__": "(self, quota, *votes)",
+        "__eq__": "(self, other)",
+        "family": "(self)",
+        "dual": "(self)",
+    },
+    ("table", "Table"): {
+        "__init__": "(self, copies, counts)",
+        **{f"__{sign}__": "(self, other)" for sign in ["eq", "add", "mul", "rmul"]},
+        "moments_of": "(self, lot)",
     },
 }
 
