@@ -106,6 +106,14 @@ def ratio_of(value):
     return None
 
 
+def ratio_in(text):
+    """Return the ratio that the text tells, None if it tells none."""
+    try:
+        return read_ratio(text)
+    except BadNumber:
+        return None
+
+
 def read_ratio(text):
     """Return the ratio that the text tells: a number, or two joined by a slash."""
     over, slash, under = text.partition("/")

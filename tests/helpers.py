@@ -18,6 +18,12 @@ NO_CHANCES = NO_RATIOS + [
 NO_SHARES = NO_RATIOS + [
     Ratio(-1, 1000), Ratio(-1), Ratio(1001, 1000), Ratio(2), Ratio(1, 1001), Ratio(1000, 1001), Ratio(-1, 1001),
 ]
+# Words that read_ratio and read_number refuse.
+NO_RATIO_WORDS = [
+    "", "x", "-1/2", "+1/2", "1/", "/2", "/", "1/2/3", "01/2", "1/02", "12345/99999", "1/12345", "1/0", "0/0", "1.5",
+    "1/-2", "1/2\t", "1/2,", "'1/2'", "1e3", "None", "True", "00",
+]
+NO_NUMBER_WORDS = ["", "x", "-1", "+1", "00", "01", "12345", "1.0", "1/1", "1,2", "0\t", "one", "None"]
 
 
 class EqualToAll:

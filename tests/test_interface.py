@@ -58,6 +58,21 @@ FUNCTIONS = {
         "table_worth": "(table, share, reads, writes)",
         "table_gain": "(table, share, lot)",
     },
+    "flows": {
+        "check_flow": "(table, share, flow)",
+        "told_flow": "(table, share)",
+        "table_most": "(table, share)",
+        "table_writes": "(table, share)",
+    },
+    "texts": {
+        "write_store": "(chances, share)",
+        "read_store": "(text)",
+        "write_family": "(family)",
+        "read_family": "(text)",
+    },
+    "console": {
+        "console": "(chances, share, lines)",
+    },
 }
 
 METHODS = {
@@ -125,6 +140,18 @@ METHODS = {
         **{f"__{sign}__": "(self, other)" for sign in ["eq", "add", "mul", "rmul"]},
         "moments_of": "(self, lot)",
     },
+    ("live", "Store"): {
+        "__init__": "(self, chances, share)",
+        "set_share": "(self, share)",
+        "set_chance": "(self, copy, chance)",
+        "add_copy": "(self, chance)",
+        "drop_copy": "(self, copy)",
+        "undo": "(self, count=1)",
+        "do_all": "(self, *deeds)",
+        "most": "(self)",
+        "writes": "(self)",
+        "strict": "(self)",
+    },
 }
 
 STATIC_METHODS = [("ratio", "Ratio", "half"), ("family", "Family", "whole"), ("family", "Family", "each")]
@@ -154,3 +181,9 @@ class InterfaceTest(unittest.TestCase):
         for file, holder, name in STATIC_METHODS:
             owner = getattr(import_module(f"copyvotes.{file}"), holder)
             self.assertIsInstance(vars(owner)[name], staticmethod)
+
+    def test_properties(self):
+        store = vars(import_module("copyvotes.live").Store)
+        self.assertIsInstance(store["chances"], property)
+        self.assertIsInstance(store["share"], property)
+        self.assertIsNot(store["share"].fset, None)

@@ -26,7 +26,7 @@ def points(fractions):
 
 
 def spans(fractions):
-    """For each family of writes the first and the last of the points at which it reaches the most, None if none does."""
+    """For each family of writes the first and the last of the points at which it reaches the most, or None."""
     found = {writes: None for writes in plain.families(len(fractions))}
     rows = plain.ups(fractions)
     for share in points(fractions):

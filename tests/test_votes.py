@@ -24,7 +24,7 @@ def by_votes(quota, votes):
 
 @cache
 def first_votes(copies):
-    """For each family that votes up to 12 have, the first of these: by the sum, then by the votes, then by the quota."""
+    """For each family that votes up to 12 have, the first of these: by sum, then by votes, then by quota."""
     found = {}
     for total in range(1, 13):
         for votes in product(range(total + 1), repeat=copies):
