@@ -35,10 +35,12 @@ def mask_of(copies, numbers):
     return mask
 
 
-def mask_in(copies, numbers):
-    """Return the mask of the lot of these copies, None if one of them is none."""
+def mask_in(copies, value):
+    """Return the mask of the lot that the value tells, None if it is no list or tuple of copies."""
+    if not isinstance(value, (list, tuple)):
+        return None
     try:
-        return mask_of(copies, numbers)
+        return mask_of(copies, value)
     except BadNumber:
         return None
 

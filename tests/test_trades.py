@@ -132,6 +132,21 @@ class CheckTest(unittest.TestCase):
         self.assert_bad(0, "given", TWO_PAIRS, [((0, 1, 4), (0, 2))])
         self.assert_bad(0, "taken", TWO_PAIRS, [((0, 1), (2, 4))])
 
+    def test_values_that_are_no_lots(self):
+        # The last ones yield copies, but are neither lists nor tuples.
+        values = [None, 3, -1, 0, True, False, 1.0, "", "0", "0 1", object(), int, len, Family(4, (0, 1))]
+        values += [b"", b"\0", b"\0\1", set(), {0, 1}, frozenset({0, 1}), {}, {0: 1, 1: 0}, range(2), iter([0, 1])]
+        for value in values:
+            with self.subTest(repr(value)):
+                self.assert_bad(0, "given", TWO_PAIRS, [(value, (0, 2)), (None, None)])
+                self.assert_bad(0, "given", TWO_PAIRS, [(value, (0, 1))])
+                self.assert_bad(0, "given", TWO_PAIRS, [(value, value)])
+                self.assert_bad(0, "given", TWO_PAIRS, [((0, 2), value)])
+                self.assert_bad(0, "taken", TWO_PAIRS, [((0, 1), value), (value, (0, 2))])
+                self.assert_bad(1, "given", TWO_PAIRS, [RIGHT[0], (value, (1, 3)), ((0, 1), value)])
+                self.assert_bad(1, "taken", TWO_PAIRS, [RIGHT[0], ((2, 3), value)])
+                self.assert_bad(2, "taken", TWO_PAIRS, RIGHT + [((0, 1), value)])
+
     def test_the_copies_come_last_with_the_number_of_pairs(self):
         self.assert_bad(0, "copies", TWO_PAIRS, [])
         self.assert_bad(0, "copies", TWO_PAIRS, ())
